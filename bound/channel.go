@@ -57,14 +57,20 @@ func ofValues(s api.Span) bool {
 	return span.Holds(api.Span{Lo: leastValue, Hi: greatestValue}, s)
 }
 
-// hull of what is picked from the ends of the terms at each position.
-func (c *channel) hull(pick func(ends []api.Span) []api.Span) api.Span {
-	// Each op has a position 0 with terms, so that there is one to begin with.
-	all := pick(c.ends(0))[0]
-	for ends := range c.rows() {
-		for _, s := range pick(ends) {
-			all, _ = span.Hull(all, s)
+// hull of what is taken from the ends of the terms at each position. Nothing is
+// listed on the way: a search for the best depth asks for as many hulls as a sum
+// has terms.
+func (c *channel) hull(pick func(ends []api.Span, take func(api.Span))) api.Span {
+	var all api.Span
+	begun := false
+	take := func(s api.Span) {
+		if !begun {
+			all, begun = s, true
 		}
+		all, _ = span.Hull(all, s)
+	}
+	for ends := range c.rows() {
+		pick(ends, take)
 	}
 	return all
 }
