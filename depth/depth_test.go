@@ -406,6 +406,31 @@ func TestLongSums(t *testing.T) {
 	}
 }
 
+// P18.1 to P18.3: a Conv and a Depthwise of 512 terms, with padding at two of
+// their positions.
+func TestLongSumsOverPadding(t *testing.T) {
+	through, plane := of(8, 8, 8), of(32, 16, 2)
+	m := star(through,
+		conv(through, 2, padded(kernel(8, 8, 1, 1), 1, 0, 0, 0)),
+		conv(through, 64, kernel(1, 8, 1, 1)),
+	)
+	deep := star(plane, depthwise(plane, padded(kernel(32, 16, 1, 1), 0, 1, 0, 0)))
+	for _, s := range list(span(-128, 127), span(-3, 2), span(100, 101)) {
+		for _, m := range []api.Model{m, deep} {
+			for _, at := range some(places(m), 4) {
+				holdChannel(t, "long", m, at.op, at.ch, s, 1, 2, 3, 64)
+			}
+		}
+	}
+	// At one position the first 64 terms are padding: 64 * pad and 448 * 63.
+	m.Ops[0].Weights = slices.Repeat([]int16{1}, 1024)
+	for _, x := range []struct{ pad, most int }{{63, 512}, {70, 512}, {71, 511}, {127, 455}, {-128, 512}} {
+		m.Ops[0].Pad = x.pad
+		expectMost(t, "long", m, 1, 2, span(63, 63), x.most, api.OK)
+		holdChannel(t, "long", m, 1, 2, span(63, 63), 1, 2, 511, 512)
+	}
+}
+
 // gaps counts depths that aren't safe below one that is.
 func (r reading) gaps() int { return r.most() - len(r.safe()) }
 
