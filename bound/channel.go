@@ -14,10 +14,11 @@ import (
 // error: every number of it and of the op is at hand, and no sum is beyond
 // 512 * 2^15 * 2^7 and a bias.
 type channel struct {
-	number            int
-	positions, length int
-	bias              int64
-	numbers, padding  api.Span
+	number, positions int
+	// first are the terms at position 0, with which the channel is found.
+	first            []api.Term
+	bias             int64
+	numbers, padding api.Span
 	// alone is a model of the op only, with tensor A as its input: layer 10
 	// asks at each position whether its model is well-formed, which would take
 	// long with all the other ops in it, and the terms are the same.
@@ -25,27 +26,37 @@ type channel struct {
 }
 
 func find(m api.Model, op, ch int, s api.Span) (channel, api.Errno) {
-	first, bias, e := terms.Of(m, op, ch, 0)
+	shapes, fault := model.Shapes(m)
+	if fault.Err != api.OK {
+		return channel{}, fault.Err
+	}
+	if op < 1 || op > len(m.Ops) {
+		return channel{}, api.ErrPlace
+	}
+	reduction := m.Ops[op-1]
+	alone := api.Model{In: shapes[reduction.A]}
+	// An op that doesn't reduce may read a second tensor, of the same shape.
+	reduction.A, reduction.B = 0, 0
+	alone.Ops = []api.Op{reduction}
+	first, bias, e := terms.Of(alone, 1, ch, 0)
 	if e != api.OK {
 		return channel{}, e
 	}
 	if !ofValues(s) {
 		return channel{}, api.ErrSpan
 	}
-	shapes, _ := model.Shapes(m)
-	reduction := m.Ops[op-1]
-	reads, makes := shapes[reduction.A], shapes[op]
-	reduction.A = 0
 	return channel{
 		number:    ch,
-		positions: makes.H * makes.W,
-		length:    len(first),
+		positions: shapes[op].H * shapes[op].W,
+		first:     first,
 		bias:      bias,
 		numbers:   s,
 		padding:   one(int64(reduction.Pad)),
-		alone:     api.Model{In: reads, Ops: []api.Op{reduction}},
+		alone:     alone,
 	}, api.OK
 }
+
+func (c *channel) length() int { return len(c.first) }
 
 const (
 	leastValue    = -128
@@ -57,43 +68,53 @@ func ofValues(s api.Span) bool {
 	return span.Holds(api.Span{Lo: leastValue, Hi: greatestValue}, s)
 }
 
-// hull of what is taken from the ends of the terms at each position. Nothing is
-// listed on the way: a search for the best depth asks for as many hulls as a sum
-// has terms.
-func (c *channel) hull(pick func(ends []api.Span, take func(api.Span))) api.Span {
-	var all api.Span
-	begun := false
-	take := func(s api.Span) {
-		if !begun {
-			all, begun = s, true
-		}
-		all, _ = span.Hull(all, s)
-	}
-	for ends := range c.rows() {
-		pick(ends, take)
-	}
-	return all
+// hull is the least span that holds all that it has taken.
+type hull struct {
+	all   api.Span
+	begun bool
 }
 
-// rows gives the ends of the terms, position by position.
+func (h *hull) take(s api.Span) {
+	if !h.begun {
+		h.all, h.begun = s, true
+	}
+	h.all, _ = span.Hull(h.all, s)
+}
+
+// gathered is the hull of what is taken from the ends of the terms at each
+// position. Nothing is listed on the way: a search for the best depth asks for
+// as many hulls as a sum has terms.
+func (c *channel) gathered(from func(ends []api.Span, h *hull)) api.Span {
+	var h hull
+	for ends := range c.rows() {
+		from(ends, &h)
+	}
+	return h.all
+}
+
+// rows gives the ends of the terms, position by position, all in one list, which
+// is of no use any more when the next ones come.
 func (c *channel) rows() iter.Seq[[]api.Span] {
 	return func(yield func([]api.Span) bool) {
+		ends := make([]api.Span, c.length())
 		for at := range c.positions {
-			if !yield(c.ends(at)) {
+			for i, term := range c.terms(at) {
+				ends[i] = c.product(term)
+			}
+			if !yield(ends) {
 				return
 			}
 		}
 	}
 }
 
-// ends are those of the terms at a position, in order.
-func (c *channel) ends(at int) []api.Span {
-	row, _, _ := terms.Of(c.alone, 1, c.number, at)
-	list := make([]api.Span, len(row))
-	for i, term := range row {
-		list[i] = c.product(term)
+// terms are those at a position, in order.
+func (c *channel) terms(at int) []api.Term {
+	if at == 0 {
+		return c.first
 	}
-	return list
+	row, _, _ := terms.Of(c.alone, 1, c.number, at)
+	return row
 }
 
 // product is what a term can come to.
